@@ -1,0 +1,179 @@
+"""What the tests share: fields, wrong values of all kinds, and a reckoning of its own to compare with."""
+
+import copy
+from itertools import product
+
+from turnpowers.fields import Field
+
+MODULI = [
+    (2, [1, 1, 1]),
+    (2, [1, 1, 0, 1]),
+    (2, [1, 0, 1, 1]),
+    (2, [1, 1, 0, 0, 1]),
+    (2, [1, 1, 1, 1, 1]),
+    (2, [1, 0, 1, 0, 0, 1]),
+    (2, [1, 1, 0, 0, 0, 0, 1]),
+    (2, [1, 1, 0, 0, 0, 0, 0, 1]),
+    (3, [1, 0, 1]),
+    (3, [2, 1, 1]),
+    (3, [1, 2, 0, 1]),
+    (3, [2, 1, 0, 0, 1]),
+    (5, [2, 0, 1]),
+    (5, [1, 1, 0, 1]),
+    (7, [1, 0, 1]),
+]
+
+FIELDS = [Field(prime, modulus) for prime, modulus in MODULI]
+FOUR, EIGHT, OTHER_EIGHT, SIXTEEN = FIELDS[:4]
+NINE, OTHER_NINE, TWENTYSEVEN, EIGHTYONE = FIELDS[8:12]
+TWENTYFIVE, FORTYNINE, BIG = FIELDS[12], FIELDS[14], FIELDS[7]
+
+GREAT = 10 ** 30 - 1
+
+WRONG_FIELDS = [None, True, False, 2, -1, "field 2 1 1 1\n", "", [2, [1, 1, 1]], (2, [1, 1, 1]), [], {}, Field]
+WRONG_PRIMES = [None, True, False, 0, 1, -2, 4, 6, 8, 9, 11, 13, 100, GREAT, "2", "", [2], (2,), [], {}, EIGHT]
+
+
+def wrong_ones(field):
+    """Values that are no elements of the field."""
+    return [True, False, None, -1, field.size, field.size + 1, GREAT, -GREAT, "1", "", "a", [1], (1,), [], {}, field]
+
+
+def wrong_lists(field, most):
+    """Values that are no lists of at most so many elements of the field."""
+    ones = wrong_ones(field)
+    found = [True, False, None, 0, 1, -1, GREAT, "1", "", "12", {}, {1: 1}, field, [1] * (most + 1)]
+    found += [(1,) * (most + 1), [0] * (most + 1), [1] * 100]
+    return found + [[one] for one in ones] + [(1, one) for one in ones] + [[one, 1] for one in ones]
+
+
+def wrong_manys(most):
+    """Values that are no COUNTS of at most so many."""
+    return [True, False, None, -1, most + 1, GREAT, -GREAT, "1", "", [1], (0,), [], {}, EIGHT]
+
+
+def alike(one, other):
+    """Whether both are of one kind and equal."""
+    return type(one) is type(other) and one == other
+
+
+def check_error(case, error, attributes, call, *values, **named):
+    """The call raises just this error, with these attributes."""
+    with case.assertRaises(error) as caught:
+        call(*values, **named)
+    case.assertIs(type(caught.exception), error)
+    for name, value in attributes.items():
+        case.assertTrue(alike(getattr(caught.exception, name), value), (name, value, caught.exception))
+
+
+def check_wrong(case, function, rows):
+    """Each wrong value of each parameter raises its error, whatever stands behind it, by position and by name.
+
+    A row is a name, a good value, a list of wrong values and their error.
+    """
+    names = [name for name, _, _, _ in rows]
+    goods = [good for _, good, _, _ in rows]
+    for at, (_, _, wrongs, error) in enumerate(rows):
+        worst = [wrong[-1] if wrong else good for _, good, wrong, _ in rows[at + 1:]]
+        for wrong in wrongs:
+            for behind in (goods[at + 1:], worst):
+                values = goods[:at] + [wrong] + behind
+                with case.subTest(function=function.__name__, values=values):
+                    check_error(case, error, {"value": wrong}, function, *values)
+                    check_error(case, error, {"value": wrong}, function, **dict(zip(names, values)))
+
+
+def check_named(case, function, names, values, found):
+    """The call tells the same by position and by the names, changes nothing, and tells new lists each time."""
+    before = copy.deepcopy(values)
+    first, second = function(*values), function(**dict(zip(names, values)))
+    case.assertTrue(alike(first, found), (function.__name__, values, first))
+    case.assertTrue(alike(second, found), (function.__name__, values, second))
+    for value, old in zip(values, before):
+        case.assertTrue(alike(value, old), (function.__name__, value, old))
+    check_new(case, first, [second] + list(values))
+
+
+def lists_in(value):
+    """All lists in a value, itself among them."""
+    found = [value] if isinstance(value, list) else []
+    if isinstance(value, (list, tuple)):
+        for one in value:
+            found += lists_in(one)
+    return found
+
+
+def check_new(case, value, others):
+    """No list in the value is one in the others."""
+    for one in lists_in(value):
+        for other in lists_in(others):
+            case.assertIsNot(one, other)
+
+
+def sample(field, many, start):
+    """A list of so many elements, another one for each start."""
+    return [(start * 37 + at * 11 + at * at * 5 + start * at * 3) % field.size for at in range(many)]
+
+
+def plain_figures(field, one):
+    """The figures of an element, reckoned here."""
+    return [one // field.prime ** at % field.prime for at in range(field.turns)]
+
+
+def plain_told(field, figures):
+    """The element with the figures, reckoned here."""
+    return sum(figure * field.prime ** at for at, figure in enumerate(figures))
+
+
+def plain_plus(field, one, other, sign=1):
+    """The sum of two elements, figure by figure."""
+    pairs = zip(plain_figures(field, one), plain_figures(field, other))
+    return plain_told(field, [(figure + sign * beside) % field.prime for figure, beside in pairs])
+
+
+def plain_times(field, one, other):
+    """The product of two elements, as polynomials, less multiples of the modulus from the top down."""
+    modulus, turns = field.modulus(), field.turns
+    sums = [0] * (2 * turns)
+    for at, figure in enumerate(plain_figures(field, one)):
+        for beside, factor in enumerate(plain_figures(field, other)):
+            sums[at + beside] += figure * factor
+    for top in range(2 * turns - 1, turns - 1, -1):
+        for at, number in enumerate(modulus[:-1]):
+            sums[top - turns + at] -= sums[top] * number
+        sums[top] = 0
+    return plain_told(field, [number % field.prime for number in sums[:turns]])
+
+
+def plain_power(field, one, many):
+    """The element many times as a factor."""
+    found = 1
+    for _ in range(many):
+        found = plain_times(field, found, one)
+    return found
+
+
+def plain_turned(field, one, many):
+    """The element, the prime times as a factor, many times one behind another."""
+    for _ in range(many):
+        one = plain_power(field, one, field.prime)
+    return one
+
+
+def plain_mixtures(field, some):
+    """The sums of the elements, each times a base figure, in all ways; as many as there are ways."""
+    found = []
+    for figures in product(range(field.prime), repeat=len(some)):
+        total = 0
+        for figure, one in zip(figures, some):
+            total = plain_plus(field, total, plain_times(field, figure, one))
+        found.append(total)
+    return found
+
+
+def plain_worth(field, turner, one):
+    """The worth of a turn sum at an element."""
+    total = 0
+    for at, part in enumerate(turner):
+        total = plain_plus(field, total, plain_times(field, part, plain_turned(field, one, at)))
+    return total

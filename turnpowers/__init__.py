@@ -1,0 +1,1 @@
+"""Turnpowers: sums of turned numbers, their spaces, and words mended by them."""
