@@ -1,7 +1,6 @@
 """What the tests share: fields, wrong values of all kinds, and a reckoning of its own to compare with."""
 
 import copy
-from itertools import product
 
 from turnpowers.fields import Field
 
@@ -32,6 +31,8 @@ GREAT = 10 ** 30 - 1
 
 WRONG_FIELDS = [None, True, False, 2, -1, "field 2 1 1 1\n", "", [2, [1, 1, 1]], (2, [1, 1, 1]), [], {}, Field]
 WRONG_PRIMES = [None, True, False, 0, 1, -2, 4, 6, 8, 9, 11, 13, 100, GREAT, "2", "", [2], (2,), [], {}, EIGHT]
+
+WRONG_SPACES = [None, True, False, 0, 1, -1, GREAT, "", "space 1\n", [1, 2], (1,), [], {}, EIGHT, (EIGHT, [1])]
 
 
 def wrong_ones(field):
@@ -162,12 +163,10 @@ def plain_turned(field, one, many):
 
 def plain_mixtures(field, some):
     """The sums of the elements, each times a base figure, in all ways; as many as there are ways."""
-    found = []
-    for figures in product(range(field.prime), repeat=len(some)):
-        total = 0
-        for figure, one in zip(figures, some):
-            total = plain_plus(field, total, plain_times(field, figure, one))
-        found.append(total)
+    found = [0]
+    for one in some:
+        multiples = [plain_times(field, figure, one) for figure in range(field.prime)]
+        found = [plain_plus(field, total, multiple) for total in found for multiple in multiples]
     return found
 
 
@@ -177,3 +176,37 @@ def plain_worth(field, turner, one):
     for at, part in enumerate(turner):
         total = plain_plus(field, total, plain_times(field, part, plain_turned(field, one, at)))
     return total
+
+
+def plain_told_turner(turner):
+    """The turn sum without noughts at its end."""
+    found = list(turner)
+    while found and found[-1] == 0:
+        found = found[:-1]
+    return found
+
+
+def plain_put(field, turner, other):
+    """The turn sum of the other one, by the sums of point 22."""
+    sums = [0] * 25
+    for at, one in enumerate(turner):
+        for beside, part in enumerate(other):
+            product_of = plain_times(field, one, plain_turned(field, part, at % field.turns))
+            sums[at + beside] = plain_plus(field, sums[at + beside], product_of)
+    return plain_told_turner(sums)
+
+
+def plain_sum(field, turner, other, sign=1):
+    """The sum of two turn sums, element by element; with the sign -1, what is left of the one."""
+    pairs = zip(list(turner) + [0] * 25, list(other) + [0] * (25 - len(other)))
+    return plain_told_turner([plain_plus(field, one, beside, sign) for one, beside in pairs])
+
+
+def turners_of(field, many, start):
+    """Turn sums of the degrees -1, 0, .., below many, some with noughts among and behind their elements."""
+    found = [[], [0, 0]]
+    for length in range(1, many + 1):
+        row = sample(field, length - 1, start + length) + [1 + (start + length) % (field.size - 1)]
+        found.append(row)
+        found.append([0] * (length // 2) + row[length // 2:])
+    return found + [found[2] + [0, 0], [0] * (many - 1) + [1]]

@@ -5,8 +5,6 @@ from turnpowers.basics import without_noughts
 
 def product_of(prime, one, other):
     """One polynomial times the other one."""
-    if one == [] or other == []:
-        return []
     sums = [0] * (len(one) + len(other) - 1)
     for at, figure in enumerate(one):
         for beside, factor in enumerate(other):
