@@ -132,6 +132,11 @@ def plain_plus(field, one, other, sign=1):
     return plain_told(field, [(figure + sign * beside) % field.prime for figure, beside in pairs])
 
 
+def plain_minus(field, one, other):
+    """The one less the other one, figure by figure."""
+    return plain_plus(field, one, other, -1)
+
+
 def plain_times(field, one, other):
     """The product of two elements, as polynomials, less multiples of the modulus from the top down."""
     modulus, turns = field.modulus(), field.turns

@@ -9,6 +9,12 @@ def mixed(field, some, figures):
     return total
 
 
+def widened(field, mixes, one):
+    """The sums of each of the mixtures and each of the element's products with the base figures."""
+    multiples = [field.multiplied(figure, one) for figure in range(field.prime)]
+    return [field.added(mix, multiple) for mix in mixes for multiple in multiples]
+
+
 def end_of(field, one):
     """The position at which an element that is not 0 ends."""
     return max([at for at, figure in enumerate(field.figures_of(one)) if figure != 0])

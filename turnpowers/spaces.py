@@ -2,7 +2,7 @@
 
 from turnpowers.checks import check_field, check_one, check_some
 from turnpowers.errors import InvalidSpace, UnlikeFields
-from turnpowers.frees import left_by, steps_of
+from turnpowers.frees import left_by, steps_of, widened
 
 
 class Space:
@@ -36,8 +36,7 @@ class Space:
         """The sorted list of all its elements."""
         found = [0]
         for step in self._steps:
-            multiples = [self._field.multiplied(figure, step) for figure in range(self._field.prime)]
-            found = [self._field.added(one, multiple) for one in found for multiple in multiples]
+            found = widened(self._field, found, step)
         return sorted(found)
 
     def __eq__(self, other):
