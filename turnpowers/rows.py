@@ -31,3 +31,15 @@ def kept_of(field, rows):
         if start is not None:
             kept.append((start, left))
     return kept
+
+
+
+def relation_of(field, rows):
+    """As few elements as can be, the last one 1, with which the first rows sum to noughts; None if all are free."""
+    width, many = len(rows[0]), len(rows)
+    # Behind each row stands a place for each row, with a 1 in its own one: there is seen what the rows were taken for.
+    marked = [list(row) + [0] * at + [1] + [0] * (many - at - 1) for at, row in enumerate(rows)]
+    for at, (start, left) in enumerate(kept_of(field, marked)):
+        if start >= width:
+            return left[width:width + at + 1]
+    return None
