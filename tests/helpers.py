@@ -1,8 +1,11 @@
 """What the tests share: fields, wrong values of all kinds, and a reckoning of its own to compare with."""
 
 import copy
+from itertools import product
 
+from turnpowers.books import Book
 from turnpowers.fields import Field
+from turnpowers.spaces import Space
 
 MODULI = [
     (2, [1, 1, 1]),
@@ -33,6 +36,10 @@ WRONG_FIELDS = [None, True, False, 2, -1, "field 2 1 1 1\n", "", [2, [1, 1, 1]],
 WRONG_PRIMES = [None, True, False, 0, 1, -2, 4, 6, 8, 9, 11, 13, 100, GREAT, "2", "", [2], (2,), [], {}, EIGHT]
 
 WRONG_SPACES = [None, True, False, 0, 1, -1, GREAT, "", "space 1\n", [1, 2], (1,), [], {}, EIGHT, (EIGHT, [1])]
+
+
+WRONG_BOOKS = [None, True, False, 0, 1, -1, GREAT, "", "book 1 1\n", [1, 2], (1,), [], {}, EIGHT, Space(EIGHT, [1])]
+WRONG_BOOKS += [Book, (EIGHT, [1, 2], 1), [EIGHT, (1,), 1]]
 
 
 def wrong_ones(field):
@@ -215,3 +222,90 @@ def turners_of(field, many, start):
         found.append(row)
         found.append([0] * (length // 2) + row[length // 2:])
     return found + [found[2] + [0, 0], [0] * (many - 1) + [1]]
+
+
+def wrong_words(book):
+    """Values that are no lists of as many elements as the book has points."""
+    long, field = book.length, book.field()
+    found = wrong_lists(field, long) + [[], (), [1] * (long - 1), (0,) * (long - 1), [0] * (long + 1)]
+    return found + [[0] * (long - 1) + [one] for one in wrong_ones(field)]
+
+
+def wrong_let(book):
+    """Values that are no turn sums of a degree below the book's many."""
+    field, many = book.field(), book.many
+    found = [[0] * many + [1], (1,) * (many + 1), [0] * 12 + [1], [0] * many + [field.size - 1, 0]]
+    return found + [[0] * 14] + wrong_lists(field, 13)
+
+
+def plain_rank(field, some):
+    """How many of some elements are free at most: from all of their mixtures, reckoned figure by figure."""
+    rows = [plain_figures(field, one) for one in some]
+    found = 0
+    for at in range(field.turns):
+        ahead = [row for row in rows if row[at] != 0]
+        if ahead:
+            first = ahead[0]
+            found += 1
+            rest = [row for row in rows if row[at] == 0] + ahead[1:]
+            rows = [plain_cleared(field, row, first, at) for row in rest]
+    return found
+
+
+def plain_cleared(field, row, first, at):
+    """The row of figures less the multiple of the first one that has the same figure at a place."""
+    factor = row[at] * pow(first[at], -1, field.prime)
+    return [(figure - factor * other) % field.prime for figure, other in zip(row, first)]
+
+
+class PlainBook:
+    """All words of a small book, and of its length, by worths that are reckoned here."""
+
+    def __init__(self, field, points, many):
+        self.field, self.points, self.many = field, list(points), many
+        self.book = Book(field, points, many)
+        self.minus = [[plain_minus(field, one, other) for other in range(field.size)] for one in range(field.size)]
+        self.all_words = list(product(range(field.size), repeat=len(points)))
+        self.ranks = {word: plain_rank(field, word) for word in self.all_words}
+        self.turners = {self.word(turner): plain_told_turner(turner)
+                        for turner in product(range(field.size), repeat=many)}
+
+    def word(self, turner):
+        """The word of a turn sum."""
+        return tuple(plain_worth(self.field, turner, point) for point in self.points)
+
+    def differences(self, word, other):
+        """The one less the other one, place by place."""
+        return tuple(self.minus[one][beside] for one, beside in zip(word, other))
+
+    def near(self, word, most):
+        """The turn sums of all words of the book that are off in at most so many directions."""
+        return [turner for other, turner in self.turners.items()
+                if self.ranks[self.differences(word, other)] <= most]
+
+
+SMALL_BOOKS = [
+    (FOUR, [1, 2], 1), (FOUR, [3, 1], 2), (FOUR, [2], 1), (EIGHT, [1, 2, 4], 1), (EIGHT, [6, 3, 4], 2),
+    (EIGHT, [5, 1, 3], 3), (EIGHT, [7, 2], 1), (EIGHT, [4], 1), (OTHER_EIGHT, [3, 4, 6], 1), (NINE, [1, 3], 1),
+    (NINE, [5, 1], 2), (OTHER_NINE, [4, 2], 1), (SIXTEEN, [1, 9, 6], 1), (TWENTYFIVE, [7, 3], 1),
+]
+
+
+def free_lots(field):
+    """Some lists of free elements of all lengths from one to the turns."""
+    units = [field.prime ** at for at in range(field.turns)]
+    lots = [units[:many] for many in range(1, field.turns + 1)] + [units[::-1]]
+    lots += [sample(field, many, start) for many in range(1, field.turns + 1) for start in range(1, 9)]
+    return [some for some in lots if plain_rank(field, some) == len(some)]
+
+
+def moved_units(field, many, factor):
+    """So many free elements: those with one figure alone, 1, each times a factor."""
+    return [plain_times(field, factor, field.prime ** at) for at in range(many)]
+
+
+def books_of(field):
+    """Some books of the field, of all lengths and manys."""
+    lots = [moved_units(field, many, field.size - 1) for many in range(1, field.turns + 1)]
+    lots.append(moved_units(field, field.turns, 1)[::-1])
+    return [Book(field, points, many) for points in lots for many in range(1, len(points) + 1)]

@@ -4,7 +4,7 @@ import unittest
 from itertools import product
 
 from tests.helpers import (
-    EIGHT, FIELDS, FOUR, NINE, TWENTYFIVE, WRONG_FIELDS, alike, check_error, check_named, check_wrong,
+    EIGHT, FIELDS, FOUR, NINE, TWENTYFIVE, WRONG_FIELDS, alike, check_error, check_named, check_wrong, free_lots,
     plain_told_turner, plain_turned, plain_worth, sample, turners_of, wrong_lists, wrong_ones,
 )
 from turnpowers.elements import are_free
@@ -14,14 +14,6 @@ from turnpowers.spaces import Space
 from turnpowers.values import through
 
 NAMES = ["field", "points", "worths"]
-
-
-def free_lots(field):
-    """Some lists of free elements of all lengths from one to the turns."""
-    units = [field.prime ** at for at in range(field.turns)]
-    lots = [units[:many] for many in range(1, field.turns + 1)] + [units[::-1]]
-    lots += [sample(field, many, start) for many in range(1, field.turns + 1) for start in range(1, 9)]
-    return [some for some in lots if are_free(field, some)]
 
 
 class ExamplesTest(unittest.TestCase):

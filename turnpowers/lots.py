@@ -19,16 +19,21 @@ def counted_to(prime, dimension):
     return total
 
 
+def spaces_in(prime, dimension, many):
+    """How many spaces of the dimension many a space of another one, at least as great, holds."""
+    above, below = 1, 1
+    for done in range(many):
+        # Each factor p ** n - p ** done of the one product, and that of the other one, without p ** done (p - 1).
+        above *= counted_to(prime, dimension - done)
+        below *= counted_to(prime, many - done)
+    return above // below
+
+
 def space_count(field, many):
     """How many spaces of the dimension many the field has."""
     check_field(field)
     check_many(many, field.turns)
-    above, below = 1, 1
-    for done in range(many):
-        # Each factor p ** n - p ** done of the one product, and that of the other one, without p ** done (p - 1).
-        above *= counted_to(field.prime, field.turns - done)
-        below *= counted_to(field.prime, many - done)
-    return above // below
+    return spaces_in(field.prime, field.turns, many)
 
 
 def gone_on(field, many, position, steps, free):
