@@ -174,6 +174,41 @@ class StatementsTest(unittest.TestCase):
                 for decorator in getattr(node, "decorator_list", []):
                     self.assertIn(getattr(decorator, "id", None), DECORATORS, path)
 
+    def test_reversed(self):
+        # A class has an index: so just what is surely a list, a tuple or a range is gone through from its end.
+        for path, tree in trees():
+            for node in ast.walk(tree):
+                if isinstance(node, ast.Call) and getattr(node.func, "id", None) == "reversed":
+                    self.assertIsInstance(node.args[0], (ast.Call, ast.List, ast.Tuple), path)
+                    if isinstance(node.args[0], ast.Call):
+                        self.assertIn(getattr(node.args[0].func, "id", None), ("list", "tuple", "sorted", "range"), path)
+
+    def test_what_is_iterated_at_once_is_not_kept(self):
+        for path, tree in trees():
+            for node in ast.walk(tree):
+                if isinstance(node, (ast.Assign, ast.Return)) and isinstance(node.value, ast.Call):
+                    name = getattr(node.value.func, "id", getattr(node.value.func, "attr", None))
+                    self.assertNotIn(name, ("range", "zip", "enumerate", "reversed", "map", "items", "values"), path)
+
+    def test_handlers(self):
+        own = {node.name for path, tree in trees() for node in tree.body
+               if path.stem == "errors" and isinstance(node, ast.ClassDef)}
+        for path, tree in trees():
+            for node in ast.walk(tree):
+                if isinstance(node, ast.ExceptHandler):
+                    names = node.type.elts if isinstance(node.type, ast.Tuple) else [node.type]
+                    self.assertTrue({name.id for name in names} <= own, path)
+                if isinstance(node, ast.Raise) and node.exc is not None:
+                    self.assertIn(node.exc.func.id, own | {"TypeError"}, path)
+
+    def test_exits_do_nothing_but_assign(self):
+        for path, tree in trees():
+            for node in ast.walk(tree):
+                if isinstance(node, ast.FunctionDef) and node.name == "__exit__":
+                    for row in node.body:
+                        self.assertIsInstance(row, ast.Assign, path)
+                        self.assertIsInstance(row.value, ast.Attribute, path)
+
     def test_sets_are_not_iterated(self):
         for path, tree in trees():
             for node in ast.walk(tree):

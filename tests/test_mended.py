@@ -131,7 +131,8 @@ class ReachTest(unittest.TestCase):
                         self.check_spoilt(book, many, many + 2)
 
     def test_just_in_reach_and_just_beyond(self):
-        for book in (BOOK, LONG, Book(BIG, [2 ** at for at in range(7)], 1), Book(BIG, [2 ** at for at in range(7)], 3)):
+        for book in (BOOK, LONG, Book(BIG, [2 ** at for at in range(7)], 1), Book(BIG, [2 ** at for at in range(7)],
+                                                                                  3)):
             found = {self.check_spoilt(book, many, 3) for many in range(book.reach + 2)}
             self.assertEqual(found, set(range(book.reach + 2)))
 

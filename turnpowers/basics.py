@@ -32,3 +32,12 @@ def without_noughts(row):
     while many > 0 and row[many - 1] == 0:
         many -= 1
     return list(row[:many])
+
+
+def copied(value):
+    """The value with new lists and tuples, those inside them too."""
+    if isinstance(value, list):
+        return [copied(one) for one in value]
+    if isinstance(value, tuple):
+        return tuple([copied(one) for one in value])
+    return value

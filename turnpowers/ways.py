@@ -23,7 +23,7 @@ def rest_out(field, turner, one):
     # If f is t - a of g, and a rest, each number of f, from the head on, and a times the number of g there make the
     # number of g at the position ahead, turned once; at last they make the rest.
     left = 0
-    for part in reversed(turner):
+    for part in reversed(list(turner)):
         left = field.added(part, field.multiplied(one, field.turned(left, -1)))
     return left
 
